@@ -1,0 +1,1 @@
+"""Norowstray: dependencies of tables, what follows from them, and what is lost."""
