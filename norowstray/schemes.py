@@ -141,6 +141,5 @@ def says_nothing(scheme, dependency):
     if kind == "within":
         return False
     _, _, left, right = dependency
-    if all([column in left for column in right]):
-        return True
-    return kind == "deals" and len(set(left + right)) == width
+    together = len(set(left + right))
+    return together == len(left) or (kind == "deals" and together == width)
