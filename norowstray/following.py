@@ -1,5 +1,6 @@
 """What follows from a book: verdicts, derivations and their judge."""
 
+from norowstray.bearing import bearing, goal_of
 from norowstray.chasing import Chaser, needed_steps
 from norowstray.shapes import parts_of, store_of
 from norowstray.steps import take_step
@@ -36,7 +37,8 @@ def wished(scheme, book, dependency):
 
 def follows(scheme, book, dependency):
     """Return True if the dependency follows from the book, otherwise False."""
-    return is_met(wished(scheme, book, dependency).tableau, dependency)
+    telling = bearing(book, goal_of(dependency))
+    return is_met(wished(scheme, telling, dependency).tableau, dependency)
 
 
 def verdict(scheme, book, dependency):

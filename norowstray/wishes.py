@@ -14,6 +14,13 @@ def wished_row(tableau, dependency):
     return tuple([tableau.heir(value_for(column)) for column in range(width)])
 
 
+def other_row(tableau, dependency):
+    """Return the second row of the start of a "settles" dependency, with its values as they are now."""
+    _, table, left, _ = dependency
+    width = tableau.scheme[table]
+    return tuple([tableau.heir(value_for(column if column in left else width + column)) for column in range(width)])
+
+
 def is_met(tableau, dependency):
     """Return True if the dependency is met in what has become of its start."""
     kind = dependency[0]
@@ -21,13 +28,8 @@ def is_met(tableau, dependency):
         return len(matching_rows(tableau, dependency)) > 0
     if kind != "settles":
         return tableau.has(dependency[1], wished_row(tableau, dependency))
-    _, table, left, right = dependency
-    width = tableau.scheme[table]
-    for column in right:
-        if column not in left:
-            if tableau.heir(value_for(column)) != tableau.heir(value_for(width + column)):
-                return False
-    return True
+    right = dependency[3]
+    return values_at(wished_row(tableau, dependency), right) == values_at(other_row(tableau, dependency), right)
 
 
 def matching_rows(tableau, dependency):

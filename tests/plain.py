@@ -1,12 +1,29 @@
 """What the document says, written down as plainly as can be, to compare the package with."""
 
-from itertools import product
+from itertools import chain, combinations, product
 
 
 def rest_of(scheme, dependency):
     """The columns of a "deals" dependency that are neither in left nor in right."""
     _, table, left, right = dependency
     return [c for c in range(scheme[table]) if c not in left and c not in right]
+
+
+def all_sets(columns):
+    """All subsets, fewer first, then the least as tuples."""
+    columns = sorted(columns)
+    return list(chain.from_iterable(combinations(columns, many) for many in range(len(columns) + 1)))
+
+
+def finest(columns, is_dealt):
+    """The least of the non-empty sets of columns that are dealt, ordered by their least columns."""
+    told = [one for one in all_sets(columns) if one and is_dealt(one)]
+    return tuple(sorted(one for one in told if not any(set(other) < set(one) for other in told)))
+
+
+def minimal(sets):
+    """Those that have no other one within them, in the given order."""
+    return tuple(one for one in sets if not any(set(other) < set(one) for other in sets))
 
 
 def agree(row, other, columns):
@@ -184,6 +201,16 @@ def plain_met(scheme, dependency, chase):
         _, _, columns, other, others = dependency
         return any(all(row[c] == b[o] for c, o in zip(columns, others)) for b in chase.store[other])
     return row in chase.store[table]
+
+
+def plain_follows(scheme, book, dependency):
+    """Whether a dependency follows, by point [19] alone."""
+    chase = PlainChase(scheme, book, plain_start(scheme, dependency))
+    steps = chase.steps()
+    while steps:
+        chase.step(steps[0])
+        steps = chase.steps()
+    return plain_met(scheme, dependency, chase)
 
 
 def plain_judge(scheme, book, dependency, steps):
