@@ -231,8 +231,7 @@ class IsRedundantTest(unittest.TestCase):
 
     def test_a_large_store(self):
         rows = tuple((k // 4, k // 4 + 1, k, k % 5, k % 7, 0, -k) for k in range(200))
-        book = tuple(("settles", 0, (0,), (1,)) for _ in range(10)) + tuple(("settles", 0, (2,), (6,)) for _ in range(9))
-        book = book + (("deals", 0, (2,), (3,)),)
+        book = (("settles", 0, (0,), (1,)),) * 10 + (("settles", 0, (2,), (6,)),) * 9 + (("deals", 0, (2,), (3,)),)
         self.assertIs(is_redundant((7,), book, (rows,), 0, rows[9], 1), True)
         self.assertIs(is_redundant((7,), book, (rows,), 0, rows[9], 0), False)
 

@@ -355,10 +355,6 @@ class WorksTest(unittest.TestCase):
         self.assertEqual(other.store(), STORE)
         self.assertEqual(other.journal(), ())
 
-    def test_methods_are_defined_in_the_class_itself(self):
-        for name in ("do", "book", "store", "journal"):
-            self.assertIn(name, vars(Works))
-
 
 class ReplayedTest(unittest.TestCase):
     JOURNAL = (("insert", 0, (3, 6)), ("undo",), ("redo",), ("drop", 0), ("undo",), ("all", (("insert", 1, (9,)),)))
