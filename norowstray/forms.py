@@ -18,42 +18,30 @@ def form_breach(scheme, book, table):
 
 def is_redundant(scheme, book, store, table, row, column):
     """Return True if the cell is redundant in the store, which keeps the book, otherwise False."""
-    touched = [dependency for dependency in book if column in columns_of(scheme, dependency, table)]
+    touched = [dependency for dependency in book if table in tables_of(dependency)]
     for value in telling_values(touched, store, table, column):
         if value != row[column] and keeps_all(scheme, changed(store, table, row, column, value), touched):
             return False
     return True
 
 
-def columns_of(scheme, dependency, table):
-    """Return the columns of the table that the dependency looks at."""
-    kind = dependency[0]
-    if kind == "within" and dependency[3] == table:
-        return dependency[4]
-    if dependency[1] != table:
-        return ()
-    if kind == "settles":
-        return dependency[2] + dependency[3]
-    return dependency[2] if kind == "within" else tuple(range(scheme[table]))
+def tables_of(dependency):
+    """Return the tables that the dependency looks at."""
+    return (dependency[1], dependency[3]) if dependency[0] == "within" else (dependency[1],)
 
 
-def telling_values(touched, store, table, column):
-    """Return values of which at least one keeps the book in the cell, if any value does."""
-    places = [(table, column)]
-    for dependency in touched:
-        if dependency[0] == "within":
-            places.extend(linked_places(dependency, (table, column)))
-    values = sorted({row[at] for other, at in places for row in store[other]})
-    # A dependency compares a cell with those of the places alone, so all the values that stand in
-    # none of them are alike, and one stands for all.
-    return [values[-1] + 1] + values
-
-
-def linked_places(inclusion, place):
-    """Return the places, pairs of a table and a column, with which the inclusion compares the place."""
-    _, table, columns, other, others = inclusion
-    links = [((table, column), (other, at)) for column, at in zip(columns, others)]
-    return [two for one, two in links if one == place] + [one for one, two in links if two == place]
+def telling_values(book, store, table, column):
+    """Return values of which at least one keeps the book in a cell of the column, if any value does."""
+    values = [row[column] for row in store[table]]
+    for dependency in book:
+        if dependency[0] == "within" and dependency[1] == table and column in dependency[2]:
+            _, _, columns, other, others = dependency
+            at = others[columns.index(column)]
+            values.extend([row[at] for row in store[other]])
+    # A cell is compared with those of its column and of the columns that it is within; what stands
+    # in columns that are within its own one, stands in this as well. So all values that are not
+    # among these are alike, and one stands for all.
+    return [max(values) + 1] + sorted(set(values))
 
 
 def changed(store, table, row, column, value):

@@ -179,6 +179,14 @@ class IsRedundantTest(unittest.TestCase):
         self.told(scheme, book, store, 0, (5,), ())
         self.told(scheme, book, (((5,),), ((0, 5),)), 0, (5,), (0,))
 
+    def test_an_inclusion_leaves_values_that_a_left_does_not(self):
+        scheme = (2, 1)
+        book = (("within", 0, (0,), 1, (0,)), ("settles", 0, (0,), (1,)))
+        store = (((5, 1), (6, 2)), ((5,), (6,)))
+        self.told(scheme, book, store, 0, (5, 1), (0,))
+        self.told(scheme, book, (store[0], ((5,), (6,), (7,))), 0, (5, 1), ())
+        self.told(scheme, book[:1], store, 0, (5, 1), ())
+
     def test_inclusions_from_other_tables(self):
         scheme = (1, 2)
         book = (("within", 0, (0,), 1, (1,)),)
