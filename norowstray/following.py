@@ -37,6 +37,9 @@ def wished(scheme, book, dependency):
 
 def follows(scheme, book, dependency):
     """Return True if the dependency follows from the book, otherwise False."""
+    # A chase might do much else before it comes to this one.
+    if dependency in book:
+        return True
     telling = bearing(book, goal_of(dependency))
     return is_met(wished(scheme, telling, dependency).tableau, dependency)
 
