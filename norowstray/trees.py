@@ -57,20 +57,23 @@ def is_tree_on(many, pairs):
 
 
 def reached(pairs, number):
-    """Return a list of the numbers to which pairs lead from a number, itself included."""
+    """Return a dict of the numbers to which pairs lead from a number, itself included.
+
+    It has for each one the number next to it on the way back, and is ordered from near to far.
+    """
     beside = {number: []}
     for one, other in pairs:
         beside.setdefault(one, []).append(other)
         beside.setdefault(other, []).append(one)
-    seen = {number: True}
+    nearer = {number: number}
     waiting = [number]
     while waiting:
         here = waiting.pop()
         for other in beside[here]:
-            if other not in seen:
-                seen[other] = True
+            if other not in nearer:
+                nearer[other] = here
                 waiting.append(other)
-    return list(seen)
+    return nearer
 
 
 def columns_of(parts):

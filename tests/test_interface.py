@@ -26,6 +26,10 @@ FUNCTIONS = """
     works: Works(scheme,book,store) replayed(scheme,book,store,journal)
     books: alike(scheme,one,other) lean_book(scheme,book) supports(scheme,book,dependency)
         all_inclusions(scheme,book,table,other)
+    functional: cover(scheme,book) synthesis(scheme,book)
+    reducing: reduced(parts,pairs,projections) join_count(parts,pairs,projections) agree_in_pairs(parts,projections)
+        agreeing_without_join(parts)
+    storetexts: write_store(tables) read_store(text) write_steps(steps) read_steps(text)
 """
 METHODS = {"do": ["self", "deed"], "book": ["self"], "store": ["self"], "journal": ["self"]}
 
