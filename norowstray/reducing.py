@@ -88,8 +88,7 @@ def least_core(parts):
 
 def cut(parts, core):
     """Return what the parts have of the columns of the core, the largest sets alone."""
-    sides = [inside(part, core) for part in parts]
-    return largest_sets([side for side in sides if side])
+    return largest_sets([inside(part, core) for part in parts])
 
 
 def inside(part, core):

@@ -30,6 +30,10 @@ FUNCTIONS = """
     reducing: reduced(parts,pairs,projections) join_count(parts,pairs,projections) agree_in_pairs(parts,projections)
         agreeing_without_join(parts)
     storetexts: write_store(tables) read_store(text) write_steps(steps) read_steps(text)
+    rules: judge_rules(width,book,lines) derived(width,book,dependency)
+    answers: answers(scheme,store,question) sure_answers(scheme,book,store,question)
+    questiontexts: write_question(question) read_question(text)
+    cascades: taken_away(scheme,book,store,table,row) put_in(scheme,book,store,table,row)
 """
 METHODS = {"do": ["self", "deed"], "book": ["self"], "store": ["self"], "journal": ["self"]}
 
