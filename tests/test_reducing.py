@@ -275,7 +275,7 @@ class WithoutJoinTest(unittest.TestCase):
         self.assertIsInstance(told, tuple)
         self.assertEqual(len(told), len(parts))
         for part, rows in zip(parts, told):
-            self.assertIsInstance(rows, tuple)
+            self.assertEqual(rows, tuple(sorted(set(rows))))
             for row in rows:
                 self.assertIsInstance(row, tuple)
                 self.assertEqual(len(row), len(part))
